@@ -1,0 +1,1 @@
+"""ballrockers: balls that turn rockers and count."""

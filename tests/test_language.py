@@ -1,0 +1,195 @@
+"""The package's files keep to the small part of Python: those of its rules that a short test can see."""
+
+import ast
+import builtins
+import pathlib
+import re
+import unittest
+
+PACKAGE = pathlib.Path(__file__).resolve().parent.parent / "ballrockers"
+
+NODES = set("""
+Module FunctionDef arguments arg ClassDef Expr Call keyword Assign AugAssign AnnAssign Assert Delete If While For
+Return Break Continue Pass Raise Try ExceptHandler ImportFrom alias Import Lambda Starred
+Name Attribute Subscript Slice Constant List Tuple Dict Set ListComp DictComp SetComp comprehension
+JoinedStr FormattedValue BinOp UnaryOp BoolOp Compare IfExp Load Store Del
+Add Sub Mult FloorDiv Mod Pow LShift RShift BitAnd BitOr BitXor Invert USub UAdd Not And Or
+Eq NotEq Lt LtE Gt GtE Is IsNot In NotIn
+""".split())
+
+OWN_NAMES = set("""
+len range enumerate zip min max sum abs sorted reversed int str bool bytes list tuple dict set frozenset isinstance
+ord repr any all divmod Exception ValueError TypeError KeyError IndexError LookupError ZeroDivisionError
+ArithmeticError OverflowError RuntimeError NotImplementedError AttributeError StopIteration
+""".split())
+
+UNDERSCORED = {"__init__", "__eq__", "__repr__", "__str__", "__len__", "__all__", "__version__"}
+
+BANNED_WORDS = re.compile(
+    r"\b(type|typing|typing_extensions|enum|Enum|IntEnum|StrEnum|Flag|IntFlag|Generic|Protocol|ABC|ABCMeta|namedtuple"
+    r"|NamedTuple|TypedDict|TYPE_CHECKING|abstractmethod)\b|dataclass|overload|contextmanager"
+)
+
+BANNED_NAMES = set("""
+register mro elements open input version_info with_traceback add_note attrgetter breakpoint builtins compile copyright
+credits delattr dir eval exec exit gc getattr globals hasattr help id importlib license locals methodcaller os quit
+setattr super type vars format format_map sys chr
+""".split())
+
+
+def sign_wrongs(text):
+    """L10, L14, L17: sizes, signs and words."""
+    rows = text.split("\n")
+    if len(rows) > 401:
+        yield "L10 file of more than 400 lines"
+    for at, row in enumerate(rows, start=1):
+        if len(row) > 120:
+            yield f"L10 line {at} of more than 120 signs"
+        if any(not " " <= sign <= "~" for sign in row):
+            yield f"L14 a strange sign in line {at}"
+        if BANNED_WORDS.search(row):
+            yield f"L17 a word that mustn't be in line {at}"
+
+
+def given_names(node):
+    """The names that a node binds or asks for."""
+    if isinstance(node, ast.Name):
+        return [node.id]
+    if isinstance(node, ast.Attribute):
+        return [node.attr]
+    if isinstance(node, (ast.FunctionDef, ast.ClassDef)):
+        return [node.name]
+    if isinstance(node, ast.arg):
+        return [node.arg]
+    return []
+
+
+def name_wrongs(node):
+    """L8, L12, L15, L17: names."""
+    for name in given_names(node):
+        if name.startswith("_") and name not in UNDERSCORED:
+            yield f"L12 the name {name}"
+        if name in BANNED_NAMES:
+            yield f"L17 the name {name}"
+        own = hasattr(builtins, name) and name not in UNDERSCORED
+        asked = isinstance(node, ast.Name) and isinstance(node.ctx, ast.Load)
+        if own and asked and name not in OWN_NAMES:
+            yield f"L8 the name {name}"
+        if own and not asked and not isinstance(node, ast.Attribute):
+            yield f"L15 the name {name} is given anew"
+
+
+def def_wrongs(node):
+    """L4, L5, L10: defs and classes."""
+    if node.decorator_list:
+        yield f"L4 a decorator at {node.name}"
+    if isinstance(node, ast.ClassDef):
+        if len(node.bases) > 1 or node.keywords:
+            yield f"L5 the bases of {node.name}"
+        return
+    if node.end_lineno - node.lineno >= 40:
+        yield f"L10 {node.name} has more than 40 lines"
+    if node.args.vararg or node.args.kwarg or node.args.posonlyargs:
+        yield f"L4 the parameters of {node.name}"
+
+
+def import_wrongs(node):
+    """L2, L16: imports."""
+    if isinstance(node, ast.Import):
+        yield "L16 an import without from"
+        return
+    names = [alias.name for alias in node.names]
+    if node.level or "*" in names:
+        yield "L2 a dot or a star"
+    if not (node.module or "").startswith("ballrockers.") and node.module != "__future__":
+        yield f"L2 drawn from {node.module}"
+
+
+def value_wrongs(node):
+    """L7, L20, L27: values."""
+    if isinstance(node, ast.Constant) and isinstance(node.value, (float, complex)):
+        yield "L7 a number with a point"
+    if isinstance(node, ast.Constant) and isinstance(node.value, str) and "%" in node.value:
+        yield "L27 a sign in a text"
+    if isinstance(node, ast.Compare) and any(isinstance(sign, (ast.Is, ast.IsNot)) for sign in node.ops):
+        sides = [node.left] + node.comparators
+        if not any(isinstance(side, ast.Constant) and side.value in (None, True, False) for side in sides):
+            yield "L20 is"
+
+
+def top_wrongs(tree):
+    """L3, L15: the top of a file."""
+    bound = []
+    for at, row in enumerate(tree.body):
+        if isinstance(row, (ast.FunctionDef, ast.ClassDef)):
+            bound.append(row.name)
+        elif isinstance(row, ast.ImportFrom):
+            bound += [alias.asname or alias.name for alias in row.names]
+        elif isinstance(row, ast.Assign) and len(row.targets) == 1 and isinstance(row.targets[0], ast.Name):
+            bound.append(row.targets[0].id)
+        elif at or not isinstance(row, ast.Expr) or not isinstance(row.value, ast.Constant):
+            yield f"L3 line {row.lineno} at the top"
+    if len(bound) != len(set(bound)):
+        yield "L15 a name bound twice at the top"
+
+
+def wrongs(text):
+    """All that is seen to be wrong in a file's text."""
+    tree = ast.parse(text)
+    told = list(sign_wrongs(text)) + list(top_wrongs(tree))
+    for node in ast.walk(tree):
+        if type(node).__name__ not in NODES:
+            told.append(f"L6 L7 {type(node).__name__} in line {getattr(node, 'lineno', '?')}")
+        told += name_wrongs(node)
+        told += value_wrongs(node)
+        if isinstance(node, (ast.FunctionDef, ast.ClassDef)):
+            told += def_wrongs(node)
+        if isinstance(node, (ast.Import, ast.ImportFrom)):
+            told += import_wrongs(node)
+    return told
+
+
+def draws(path):
+    """The package's files that a file draws from, by their names."""
+    nodes = ast.walk(ast.parse(path.read_text()))
+    modules = [node.module for node in nodes if isinstance(node, ast.ImportFrom)]
+    return [module.split(".")[1] for module in modules if module.startswith("ballrockers.")]
+
+
+class Language(unittest.TestCase):
+    def files(self):
+        return sorted(path for path in PACKAGE.rglob("*") if "__pycache__" not in path.parts)
+
+    def test_files(self):
+        self.assertIn(PACKAGE / "__init__.py", self.files())
+        for path in self.files():
+            self.assertRegex(path.name, r"^([a-z][a-z0-9_]*|__init__|__main__)\.py$")
+
+    def test_texts(self):
+        for path in self.files():
+            with self.subTest(path.name):
+                self.assertEqual(wrongs(path.read_text(encoding="utf-8")), [])
+
+    def test_no_two_files_draw_from_one_another(self):
+        left = {path.stem: draws(path) for path in self.files()}
+        while left:
+            ready = [name for name in left if not set(left[name]) & set(left)]
+            self.assertTrue(ready, f"a circle among {sorted(left)}")
+            for name in ready:
+                del left[name]
+
+    def test_wrong_texts_are_seen(self):
+        for text in (
+            "import sys\n", "from os import path\n", "from .boards import is_leans\n", "x = 1\nx = 2\n", "x = 1.5\n",
+            "def f(*xs):\n    return xs\n", "def f(x):\n    yield x\n", "def f(x):\n    return all(y for y in x)\n",
+            "def f(x):\n    return x / 2\n", "def f(x):\n    return type(x)\n", "def f(_x):\n    return 1\n",
+            "def f(x):\n    with x:\n        pass\n", "def f(x):\n    return x is 5\n", "def f(x):\n    return hash(x)\n",
+            "def f(min):\n    return 1\n", "# a type\n", "print(1)\n", "x = 'a%b'\n", "x = 1  # " + "a" * 120 + "\n",
+            "def f():\n" + "    pass\n" * 40, "x = 1\n" * 401, "class A:\n    @staticmethod\n    def f():\n        pass\n",
+        ):
+            with self.subTest(text[:40]):
+                self.assertNotEqual(wrongs(text), [])
+
+
+if __name__ == "__main__":
+    unittest.main()

@@ -1,0 +1,39 @@
+"""Numbers and tuples of numbers: True and False are none."""
+
+import unittest
+
+from ballrockers.whole import are_wholes_within, is_tuple_within, is_whole, is_whole_within
+
+
+class Wholes(unittest.TestCase):
+    def test_numbers(self):
+        for number in (0, 1, -1, 10 ** 59, -(10 ** 59)):
+            self.assertIs(is_whole(number), True)
+
+    def test_no_numbers(self):
+        for thing in (True, False, None, "", "1", (), (1,), [], [1], {}, {1: 1}):
+            self.assertIs(is_whole(thing), False)
+
+    def test_bounds(self):
+        told = [is_whole_within(number, 2, 4) for number in range(7)]
+        self.assertEqual(told, [False, False, True, True, True, False, False])
+        self.assertIs(is_whole_within(True, 0, 1), False)
+        self.assertIs(is_whole_within("3", 2, 4), False)
+
+
+class Tuples(unittest.TestCase):
+    def test_lengths(self):
+        told = [is_tuple_within((0,) * many, 1, 2) for many in range(4)]
+        self.assertEqual(told, [False, True, True, False])
+        for thing in ([0], "0", {0: 0}, None, 1, True):
+            self.assertIs(is_tuple_within(thing, 1, 2), False)
+
+    def test_of_numbers(self):
+        self.assertIs(are_wholes_within((), 0, 2, 0, 1), True)
+        self.assertIs(are_wholes_within((0, 1), 0, 2, 0, 1), True)
+        for thing in ((0, 2), (-1, 0), (0, True), (0, None), (0, 0, 0), [0, 1], "01", None):
+            self.assertIs(are_wholes_within(thing, 0, 2, 0, 1), False)
+
+
+if __name__ == "__main__":
+    unittest.main()
