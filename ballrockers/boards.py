@@ -1,6 +1,6 @@
 """Boards, leans and stands: what is one, and what isn't."""
 
-from ballrockers.errors import Fault, NoBoard, NoNumber
+from ballrockers.errors import Fault, NoBoard, NoLeans, NoNumber, NoStand
 from ballrockers.whole import are_wholes_within, is_tuple_within, is_whole_within
 
 MOST_COLUMNS = 40
@@ -44,6 +44,23 @@ def all_leans(groups):
     for group in range(groups):
         rising = [leans + (lean,) for leans in rising for lean in (0, 1)]
     return rising
+
+
+def look_at_leans(board, thing):
+    """Refuses what is no board, then what isn't leans of it."""
+    if not is_leans(board, thing):
+        raise NoLeans()
+
+
+def look_at_stand(board, thing):
+    """Refuses what is no board, then what is no stand of it."""
+    if not is_stand(board, thing):
+        raise NoStand()
+
+
+def is_row(thing, feeders, most):
+    """Whether the thing is a row of at most so many numbers of one of so many feeders."""
+    return are_wholes_within(thing, 0, most, 0, feeders - 1)
 
 
 def is_board_but_for_places(board):

@@ -25,3 +25,13 @@ def are_wholes_within(thing, fewest, most, low, high):
         if not is_whole_within(number, low, high):
             return False
     return True
+
+
+def is_just(thing, told):
+    """Whether the thing is what is told, of numbers, texts, None and tuples of these, kind by kind."""
+    if isinstance(told, tuple):
+        if not is_tuple_within(thing, len(told), len(told)):
+            return False
+        return all([is_just(part, told_part) for part, told_part in zip(thing, told)])
+    # Python takes True for 1 and False for 0.
+    return not isinstance(thing, bool) and thing == told

@@ -1,4 +1,6 @@
-"""Boards and other things that several tests hand in."""
+"""Boards and other things that several tests hand in, and what they hold the program against."""
+
+from ballrockers.errors import BoardError, Fault
 
 DOOR = (0, 0)
 
@@ -43,6 +45,174 @@ def with_place(board, row, column, thing):
     return with_part(board, 2, board[2][:row] + (changed,) + board[2][row + 1:])
 
 
+def drawn(*lines, width=1, groups=None, feeders=(0,), doors=None):
+    """A board of lines of signs; a to h rockers of side 0, A to H of side 1; each door's name is its column."""
+    rows = tuple(tuple(drawn_piece(sign) for sign in line) for line in lines)
+    if rows:
+        width = len(rows[0])
+    if groups is None:
+        groups = max([piece[0] + 1 for places in rows for piece in places if isinstance(piece, tuple)], default=0)
+    if doors is None:
+        doors = tuple((column, 0) for column in range(width))
+    return (width, groups, rows, feeders, doors)
+
+
+def drawn_piece(sign):
+    """The piece that a sign shows."""
+    if sign in "abcdefgh":
+        return ("abcdefgh".index(sign), 0)
+    if sign in "ABCDEFGH":
+        return ("ABCDEFGH".index(sign), 1)
+    return sign
+
+
+def rolled_board(dice, width=None, groups=None, rows=None, feeders=None):
+    """A board by dice, of the sizes that are told."""
+    width = dice.randint(1, 9) if width is None else width
+    groups = dice.randint(0, 4) if groups is None else groups
+    rows = dice.randint(0, 9) if rows is None else rows
+    feeders = dice.randint(1, 4) if feeders is None else feeders
+    calls = [None] + list(range(feeders)) * 3
+    return (
+        width,
+        groups,
+        tuple(tuple(rolled_piece(dice, column, width, groups) for column in range(width)) for row in range(rows)),
+        tuple(dice.randrange(width) for feeder in range(feeders)),
+        tuple((dice.choice((0, 1, 2, 99)), dice.choice(calls)) for column in range(width)),
+    )
+
+
+def rolled_piece(dice, column, width, groups):
+    """A piece by dice that may stand in the column."""
+    pieces = [".", "."]
+    if dice.random() < 0.1:
+        pieces = ["s"]
+    elif 0 < column < width - 1:
+        pieces += ["<", ">", "x", "x"] + [(group, side) for group in range(groups) for side in (0, 1)] * 2
+    elif column > 0:
+        pieces += ["<"]
+    elif column < width - 1:
+        pieces += [">"]
+    return dice.choice(pieces)
+
+
+def rolled_leans(dice, board):
+    """Leans of the board by dice."""
+    return tuple(dice.randint(0, 1) for group in range(board[1]))
+
+
+# [9] once more, by where a ball came from, to hold the program against it.
+CROSSED = {"above": "down", "left": "right", "right": "left"}
+CAME = {"down": "above", "right": "left", "left": "right"}
+STEP = {"down": 0, "right": 1, "left": -1}
+
+
+def model_step(piece, came, leaning):
+    """To which side a ball goes from a piece, None in a blind place; turns a rocker's group in the dict."""
+    if isinstance(piece, tuple):
+        group, side = piece
+        goes = "left" if leaning[group] == side else "right"
+        leaning[group] = {0: 1, 1: 0}[leaning[group]]
+        return goes
+    return {".": "down", "<": "left", ">": "right", "x": CROSSED[came], "s": None}[piece]
+
+
+def model_way(board, leans, feeder):
+    """What way tells."""
+    leaning = dict(enumerate(leans))
+    columns, turned, came = [board[3][feeder]], [], "above"
+    for places in board[2]:
+        piece = places[columns[-1]]
+        goes = model_step(piece, came, leaning)
+        if goes is None:
+            break
+        if isinstance(piece, tuple):
+            turned.append(piece[0])
+        columns.append(columns[-1] + STEP[goes])
+        came = CAME[goes]
+    return (tuple(columns), tuple(turned), tuple(leaning.values()))
+
+
+def model_ball(board, leans, feeder):
+    """A ball's name, the feeder that is called, and the leans behind; None and None of a ball that is stuck."""
+    columns, turned, behind = model_way(board, leans, feeder)
+    if len(columns) == len(board[2]) + 1:
+        return board[4][columns[-1]] + (behind,)
+    return (None, None, behind)
+
+
+def model_told(board, leans, row):
+    """What told tells."""
+    names = ()
+    for feeder in row:
+        name, call, leans = model_ball(board, leans, feeder)
+        names += (name,)
+    return (names, leans)
+
+
+def model_called(board, stand, most):
+    """What called tells."""
+    leans, feeder = stand
+    names = ()
+    for ball in range(most):
+        if feeder is None:
+            break
+        name, feeder, leans = model_ball(board, leans, feeder)
+        names += (name,)
+    return (names, (leans, feeder))
+
+
+def model_at_once(board, leans, row, beat):
+    """What at_once tells, beat after beat."""
+    leaning = dict(enumerate(leans))
+    names = [None] * len(row)
+    on_board, now = [], 0
+    while on_board or now <= beat * len(row):
+        if now % beat == 0 and now // beat < len(row):
+            on_board.append([now // beat, 0, board[3][row[now // beat]], "above"])
+        staying = []
+        for ball, deep, column, came in on_board:
+            if deep == len(board[2]):
+                names[ball] = board[4][column][0]
+                continue
+            goes = model_step(board[2][deep][column], came, leaning)
+            if goes is not None:
+                staying.append([ball, deep + 1, column + STEP[goes], CAME[goes]])
+        on_board = staying
+        now += 1
+    return (tuple(names), tuple(leaning.values()))
+
+
+def number_kinds(thing):
+    """The thing with each part's kind beside it, so that True is unlike 1 and a list unlike a tuple."""
+    if isinstance(thing, (tuple, list)):
+        return (type(thing), [number_kinds(part) for part in thing])
+    return (type(thing), thing)
+
+
+def changed_papers(paper):
+    """A list of things of almost the paper's form, each unlike it in one part."""
+    found = [paper + (0,), paper + (None,), paper[:-1], paper[1:], paper + paper, paper[::-1], list(paper)]
+    for at, part in enumerate(paper):
+        others_of_part = changed_papers(part) if isinstance(part, tuple) else changed_numbers(part)
+        found += [paper[:at] + (other,) + paper[at + 1:] for other in others_of_part]
+        found.append(paper[:at] + paper[at + 1:])
+        found.append(paper[:at] + (part, part) + paper[at + 1:])
+        for further in range(at + 1, len(paper)):
+            exchanged = list(paper)
+            exchanged[at], exchanged[further] = exchanged[further], exchanged[at]
+            found.append(tuple(exchanged))
+    kinds = number_kinds(paper)
+    return [other for other in found if number_kinds(other) != kinds]
+
+
+def changed_numbers(number):
+    """Things that are unlike a number, and some almost like it."""
+    if number is None:
+        return [0, 1, False, (), "None"]
+    return [number + 1, number - 1, -number - 1, str(number), (number,), [number], None, 10 ** 59, bool(number)]
+
+
 def deep(levels):
     """Lists within tuples within dicts, so many deep in all."""
     thing = 0
@@ -63,3 +233,58 @@ def others():
         (None, None, None, None, None),
         deep(20), (0,) * 20000, [0] * 20000, "a" * 3000,
     ]
+
+
+# A board but for one place, its row and column at hand.
+FAULTY = with_place(MIXED, 1, 2, (0, True))
+FAULTY_AT = (1, 2)
+
+
+def no_boards():
+    """Things that are no board, some of them almost MIXED."""
+    return others() + [
+        0, (), MIXED[:4], MIXED + (0,), list(MIXED), dict(enumerate(MIXED)), with_part(FAULTY, 4, ()),
+        with_part(MIXED, 0, True), with_part(MIXED, 1, 9), with_part(MIXED, 2, list(MIXED[2])),
+        with_part(MIXED, 3, (1, True)), with_part(MIXED, 4, list(MIXED[4])),
+    ]
+
+
+def no_leans():
+    """Things that aren't leans of MIXED, nor of a board without a group."""
+    return others() + [
+        0, 1, (0,), (1,), (0, 0, 0), (0, 2), (2, 0), (0, -1), (True, 0), (0, False), (0, None), (0, "1"), [0, 1],
+        ((0, 1), 0), ((0, 1), None),
+    ]
+
+
+def no_feeders():
+    """Things that aren't the number of one of MIXED's two feeders."""
+    return others() + [2, 3, 4, (), (0,), (0, 1)]
+
+
+def no_rows(most):
+    """Things that are no row of at most so many numbers of MIXED's two feeders."""
+    found = [
+        0, 1, (2,), (0, 2), (-1,), (0, -1, 0), (0, True), (False,), (None, 0), (0, None), ((0,),), ([0],), ("0",),
+        (0, "1"), [0, 1, 0], {0: 0, 1: 1}, "0101", (0,) * (most + 1), (1,) * (most + 2), (0,) * most + (None,),
+        (0,) * (most - 1) + (2,), (10 ** 59,), (0, (), 1), [0] * most,
+    ]
+    return others() + found
+
+
+def no_numbers(low, high):
+    """Things that are no number from low to high."""
+    return [thing for thing in others() if type(thing) is not int or not low <= thing <= high] + [
+        low - 1, high + 1, high + 2, high * 10, -high - 1, str(low), str(high), (low,), [high], {low: high}, (), ((),),
+    ]
+
+
+def refusal(ask, *things):
+    """The class of the refusal, None where nothing is refused; of Fault with its row and column."""
+    try:
+        ask(*things)
+    except Fault as fault:
+        return (Fault, fault.row, fault.column)
+    except BoardError as error:
+        return type(error)
+    return None

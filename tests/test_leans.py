@@ -6,9 +6,7 @@ import unittest
 
 from ballrockers.boards import all_leans, is_leans, is_stand
 from ballrockers.errors import Fault, NoBoard, NoNumber
-from samples import LEAST, MIXED, others, plain_board, with_part, with_place
-
-FAULTY = with_place(MIXED, 1, 2, (0, True))
+from samples import FAULTY, LEAST, MIXED, others, plain_board, with_part
 
 
 class Leans(unittest.TestCase):

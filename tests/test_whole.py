@@ -2,7 +2,7 @@
 
 import unittest
 
-from ballrockers.whole import are_wholes_within, is_tuple_within, is_whole, is_whole_within
+from ballrockers.whole import are_wholes_within, is_just, is_tuple_within, is_whole, is_whole_within
 
 
 class Wholes(unittest.TestCase):
@@ -33,6 +33,27 @@ class Tuples(unittest.TestCase):
         self.assertIs(are_wholes_within((0, 1), 0, 2, 0, 1), True)
         for thing in ((0, 2), (-1, 0), (0, True), (0, None), (0, 0, 0), [0, 1], "01", None):
             self.assertIs(are_wholes_within(thing, 0, 2, 0, 1), False)
+
+
+class Just(unittest.TestCase):
+    def test_the_same(self):
+        for told in (0, 1, 10 ** 59, None, "", "alike", (), (0,), (1, (0, None)), ((), ((),)), ("safe", ((0, 1), 2))):
+            self.assertIs(is_just(told, told), True)
+
+    def test_another(self):
+        for thing, told in (
+            (1, 0), (-1, 1), ("1", 1), ((1,), 1), ([1], 1), (None, 0), (0, None), ("", None), ((), None), (None, ()),
+            ("alike", "parted"), (("alike",), "alike"), (0, ""), ((1, 2), (1,)), ((1,), (1, 2)), ((2, 1), (1, 2)),
+            ((), ((),)), (((),), ()), (((1, 2), 3), ((1, 3), 3)), ({}, ()), ("", ()), ("ab", ("a", "b")),
+        ):
+            self.assertIs(is_just(thing, told), False, (thing, told))
+
+    def test_kinds(self):
+        for thing, told in (
+            (True, 1), (False, 0), ((True,), (1,)), ((0, False), (0, 0)), (((1, True),), ((1, 1),)), ([], ()),
+            ([1], (1,)), (([1],), ((1,),)), ((1, []), (1, ())), (False, None), (True, "alike"),
+        ):
+            self.assertIs(is_just(thing, told), False, (thing, told))
 
 
 if __name__ == "__main__":

@@ -1,0 +1,77 @@
+"""The way of one ball: where it falls, which groups it turns, how the rockers lean behind it."""
+
+from ballrockers.boards import look_at_leans
+from ballrockers.errors import NoFeeder
+from ballrockers.whole import is_just, is_whole_within
+
+# A heading is how many columns further to the right a ball comes to the next row; None: it doesn't, it's stuck.
+LEFT = -1
+STRAIGHT = 0
+RIGHT = 1
+
+# What a ball that is stuck comes out by: no name is told, and no ball is called.
+NO_DOOR = (None, None)
+
+
+def way(board, leans, feeder):
+    """A tuple (columns, turned, behind) of a ball of the feeder."""
+    look_at_feeder(board, leans, feeder)
+    return fallen(board, leans, feeder)
+
+
+def way_holds(board, leans, feeder, paper):
+    """Whether the paper is just what way tells."""
+    look_at_feeder(board, leans, feeder)
+    return is_just(paper, fallen(board, leans, feeder))
+
+
+def look_at_feeder(board, leans, thing):
+    """Refuses what is no board, what isn't leans of it, then what is no number of its feeders."""
+    look_at_leans(board, leans)
+    if not is_whole_within(thing, 0, len(board[3]) - 1):
+        raise NoFeeder()
+
+
+def fallen(board, leans, feeder):
+    """What way tells, of a board, leans and a feeder that were looked at."""
+    column = board[3][feeder]
+    columns = [column]
+    turned = []
+    leaning = list(leans)
+    heading = STRAIGHT
+    for places in board[2]:
+        piece = places[column]
+        heading = heading_behind(piece, heading, leaning)
+        if heading is None:
+            break
+        if isinstance(piece, tuple):
+            turned.append(piece[0])
+        column += heading
+        columns.append(column)
+    return tuple(columns), tuple(turned), tuple(leaning)
+
+
+def heading_behind(piece, heading, leaning):
+    """The heading of a ball behind a piece to which it came by a heading; a rocker turns its group in the list."""
+    if isinstance(piece, tuple):
+        group, side = piece
+        lean = leaning[group]
+        leaning[group] = 1 - lean
+        return LEFT if lean == side else RIGHT
+    if piece == "s":
+        return None
+    # Whoever came from the right was heading to the left: a crossing leads on as a ball came.
+    if piece == "x":
+        return heading
+    if piece == ".":
+        return STRAIGHT
+    return LEFT if piece == "<" else RIGHT
+
+
+def come_out(board, leans, feeder):
+    """The door by which a ball comes out, NO_DOOR of one that is stuck, and the leans behind."""
+    columns, turned, behind = fallen(board, leans, feeder)
+    # A ball that is stuck comes to fewer places than there are rows and a door.
+    if len(columns) <= len(board[2]):
+        return NO_DOOR, behind
+    return board[4][columns[-1]], behind
