@@ -63,6 +63,11 @@ def is_row(thing, feeders, most):
     return are_wholes_within(thing, 0, most, 0, feeders - 1)
 
 
+def is_some_row(thing, feeders):
+    """Whether the thing is a row of one or more numbers of one of so many feeders, however long."""
+    return isinstance(thing, tuple) and are_wholes_within(thing, 1, len(thing), 0, feeders - 1)
+
+
 def is_board_but_for_places(board):
     """Whether the thing is a board, whatever its places hold."""
     if not is_tuple_within(board, 5, 5):

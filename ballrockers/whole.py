@@ -12,6 +12,11 @@ def is_whole_within(thing, low, high):
     return is_whole(thing) and low <= thing <= high
 
 
+def is_from(thing, low):
+    """Whether the thing is a number, low or above."""
+    return is_whole(thing) and thing >= low
+
+
 def is_tuple_within(thing, fewest, most):
     """Whether the thing is a tuple of fewest to most things."""
     return isinstance(thing, tuple) and fewest <= len(thing) <= most

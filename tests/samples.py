@@ -66,6 +66,34 @@ def drawn_piece(sign):
     return sign
 
 
+def number_of(digits):
+    """The number whose digits these are, that of 1 first."""
+    return sum(digit * 2 ** at for at, digit in enumerate(digits))
+
+
+def digits_of(number, size):
+    """So many digits of the number, that of 1 first."""
+    return tuple(number // 2 ** at % 2 for at in range(size))
+
+
+def chain(groups, blind=False, over=1):
+    """A chain of rockers that counts up, the digit of 1 first; a ball by which all become 0 comes out by over's name.
+
+    Or, blind, it is stuck in the last row; all others come out by the name 0.
+    """
+    width = groups + 3
+    column = groups + 1
+    rows = []
+    for group in range(groups):
+        places = ["."] * width
+        places[column - group] = (group, 1)
+        rows.append(tuple(places))
+    if blind:
+        rows.append((".", "s") + (".",) * (width - 2))
+    doors = ((0, 0), (over, 0)) + ((0, 0),) * (width - 2)
+    return (width, groups, tuple(rows), (column,), doors)
+
+
 def rolled_board(dice, width=None, groups=None, rows=None, feeders=None):
     """A board by dice, of the sizes that are told."""
     width = dice.randint(1, 9) if width is None else width
@@ -80,6 +108,26 @@ def rolled_board(dice, width=None, groups=None, rows=None, feeders=None):
         tuple(dice.randrange(width) for feeder in range(feeders)),
         tuple((dice.choice((0, 1, 2, 99)), dice.choice(calls)) for column in range(width)),
     )
+
+
+def rolled_turning_board(dice, groups, feeders, blind=0):
+    """A board by dice with many rockers, and so many blind places, which just some balls come to."""
+    width = dice.randint(5, 9)
+    board = rolled_board(dice, width=width, groups=groups, rows=0, feeders=feeders)
+    pieces = [(group, side) for group in range(groups) for side in (0, 1)]
+    pieces += [".", "x"] * max(1, groups // 2)
+    rows = [
+        (".",) + tuple(dice.choice(pieces) for column in range(width - 2)) + (".",) for row in range(dice.randint(2, 6))
+    ]
+    board = with_part(board, 2, tuple(rows))
+    for place in range(blind):
+        board = with_place(board, len(rows) - 1, dice.randrange(width), "s")
+    return board
+
+
+def without_blind_places(board):
+    """The board with nothing in the places of all blind ones."""
+    return with_part(board, 2, tuple(tuple("." if piece == "s" else piece for piece in places) for places in board[2]))
 
 
 def rolled_piece(dice, column, width, groups):
@@ -207,10 +255,23 @@ def changed_papers(paper):
 
 
 def changed_numbers(number):
-    """Things that are unlike a number, and some almost like it."""
+    """Things that are unlike a number, a text or None, and some almost like it."""
     if number is None:
         return [0, 1, False, (), "None"]
+    if isinstance(number, str):
+        return [number + "s", number[1:], number.upper(), "", (number,), [number], None, 0, True, "safe", "stuck"]
     return [number + 1, number - 1, -number - 1, str(number), (number,), [number], None, 10 ** 59, bool(number)]
+
+
+def kinds_changed(thing):
+    """The thing with a list in the place of a tuple, or a truth in that of a number that is like it."""
+    if isinstance(thing, tuple):
+        yield list(thing)
+        for at, part in enumerate(thing):
+            for changed in kinds_changed(part):
+                yield thing[:at] + (changed,) + thing[at + 1:]
+    elif thing in (0, 1):
+        yield bool(thing)
 
 
 def deep(levels):

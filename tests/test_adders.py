@@ -7,17 +7,7 @@ from ballrockers.adders import adder
 from ballrockers.boards import all_leans, look_at_board
 from ballrockers.errors import NoNumber
 from ballrockers.runs import called
-from samples import model_called, no_numbers, number_kinds, others, refusal
-
-
-def number_of(digits):
-    """The number whose digits these are, that of 1 first."""
-    return sum(digit * 2 ** at for at, digit in enumerate(digits))
-
-
-def digits_of(number, size):
-    """So many digits of the number, that of 1 first."""
-    return tuple(number // 2 ** at % 2 for at in range(size))
+from samples import digits_of, model_called, no_numbers, number_kinds, number_of, others, refusal
 
 
 class Adders(unittest.TestCase):

@@ -133,10 +133,30 @@ def top_wrongs(tree):
         yield "L15 a name bound twice at the top"
 
 
+def drawn_names(tree):
+    """The names of a file's imports and classes."""
+    names = [row.name for row in tree.body if isinstance(row, ast.ClassDef)]
+    return names + [alias.name for row in tree.body if isinstance(row, ast.ImportFrom) for alias in row.names]
+
+
+def local_wrongs(tree):
+    """L15: no parameter, no local and no def within a def is called like a class or an import of its file."""
+    drawn = drawn_names(tree)
+    for whole in ast.walk(tree):
+        if not isinstance(whole, ast.FunctionDef):
+            continue
+        for node in ast.walk(whole):
+            given = isinstance(node, (ast.arg, ast.FunctionDef))
+            given = given or isinstance(node, ast.Name) and isinstance(node.ctx, ast.Store)
+            for name in given_names(node) if given else ():
+                if name in drawn:
+                    yield f"L15 the local {name} in {whole.name}"
+
+
 def wrongs(text):
     """All that is seen to be wrong in a file's text."""
     tree = ast.parse(text)
-    told = list(sign_wrongs(text)) + list(top_wrongs(tree))
+    told = list(sign_wrongs(text)) + list(top_wrongs(tree)) + list(local_wrongs(tree))
     for node in ast.walk(tree):
         if type(node).__name__ not in NODES:
             told.append(f"L6 L7 {type(node).__name__} in line {getattr(node, 'lineno', '?')}")
@@ -147,6 +167,23 @@ def wrongs(text):
         if isinstance(node, (ast.Import, ast.ImportFrom)):
             told += import_wrongs(node)
     return told
+
+
+def drawn_rows(path):
+    """Of each import of a file: the file that it's drawn from, and its name."""
+    for node in ast.walk(ast.parse(path.read_text())):
+        if isinstance(node, ast.ImportFrom) and node.module.startswith("ballrockers."):
+            for alias in node.names:
+                yield node.module.split(".")[1], alias.name
+
+
+def top_names(path):
+    """The names that a file's top binds itself."""
+    for row in ast.parse(path.read_text()).body:
+        if isinstance(row, (ast.FunctionDef, ast.ClassDef)):
+            yield row.name
+        elif isinstance(row, ast.Assign):
+            yield row.targets[0].id
 
 
 def draws(path):
@@ -178,6 +215,12 @@ class Language(unittest.TestCase):
             for name in ready:
                 del left[name]
 
+    def test_names_are_drawn_from_the_very_file(self):
+        bound = {path.stem: list(top_names(path)) for path in self.files()}
+        for path in self.files():
+            for file, name in drawn_rows(path):
+                self.assertIn(name, bound[file], path.name)
+
     def test_wrong_texts_are_seen(self):
         for text in (
             "import sys\n", "from os import path\n", "from .boards import is_leans\n", "x = 1\nx = 2\n", "x = 1.5\n",
@@ -185,7 +228,8 @@ class Language(unittest.TestCase):
             "def f(x):\n    return x / 2\n", "def f(x):\n    return type(x)\n", "def f(_x):\n    return 1\n",
             "def f(x):\n    with x:\n        pass\n", "def f(x):\n    return x is 5\n", "def f(x):\n    return hash(x)\n",
             "def f(min):\n    return 1\n", "# a type\n", "print(1)\n", "x = 'a%b'\n", "x = 1  # " + "a" * 120 + "\n",
-            "def f():\n" + "    pass\n" * 40, "x = 1\n" * 401, "class A:\n    @staticmethod\n    def f():\n        pass\n",
+            "from ballrockers.runs import told\ndef f(told):\n    return 1\n",
+            "from ballrockers.runs import told\ndef f():\n    told = 1\n", "def f():\n" + "    pass\n" * 40, "x = 1\n" * 401, "class A:\n    @staticmethod\n    def f():\n        pass\n",
         ):
             with self.subTest(text[:40]):
                 self.assertNotEqual(wrongs(text), [])

@@ -2,7 +2,7 @@
 
 import unittest
 
-from ballrockers.whole import are_wholes_within, is_just, is_tuple_within, is_whole, is_whole_within
+from ballrockers.whole import are_wholes_within, is_from, is_just, is_tuple_within, is_whole, is_whole_within
 
 
 class Wholes(unittest.TestCase):
@@ -19,6 +19,11 @@ class Wholes(unittest.TestCase):
         self.assertEqual(told, [False, False, True, True, True, False, False])
         self.assertIs(is_whole_within(True, 0, 1), False)
         self.assertIs(is_whole_within("3", 2, 4), False)
+
+    def test_from(self):
+        self.assertEqual([is_from(number, 0) for number in (-1, 0, 1, 10 ** 59)], [False, True, True, True])
+        for thing in (True, False, None, "0", (0,), [0], {}):
+            self.assertIs(is_from(thing, 0), False)
 
 
 class Tuples(unittest.TestCase):
