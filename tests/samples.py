@@ -94,6 +94,17 @@ def chain(groups, blind=False, over=1):
     return (width, groups, tuple(rows), (column,), doors)
 
 
+def counting_by_four(over_call=None):
+    """Eight groups, four feeders: balls of the last one count, each other one's door calls the next feeder.
+
+    So a count takes 1,024 balls; the last one's door calls the told feeder.
+    """
+    width, groups, rows, feeders, doors = chain(8)
+    rows = tuple(places + (".",) * 3 for places in rows)
+    doors = doors[:1] + ((1, over_call),) + doors[2:] + ((7, 1), (8, 2), (9, 3))
+    return (width + 3, groups, rows, (width, width + 1, width + 2) + feeders, doors)
+
+
 def rolled_board(dice, width=None, groups=None, rows=None, feeders=None):
     """A board by dice, of the sizes that are told."""
     width = dice.randint(1, 9) if width is None else width
@@ -187,6 +198,11 @@ def model_ball(board, leans, feeder):
     if len(columns) == len(board[2]) + 1:
         return board[4][columns[-1]] + (behind,)
     return (None, None, behind)
+
+
+def model_is_leans(board, thing):
+    """Whether the thing is leans of the board, kinds and all."""
+    return type(thing) is tuple and len(thing) == board[1] and all(type(lean) is int and lean in (0, 1) for lean in thing)
 
 
 def model_told(board, leans, row):
@@ -321,6 +337,14 @@ def no_leans():
 def no_feeders():
     """Things that aren't the number of one of MIXED's two feeders."""
     return others() + [2, 3, 4, (), (0,), (0, 1)]
+
+
+def no_stands():
+    """Things that are no stand of MIXED."""
+    found = [0, (), (0, 1), ((0, 1),), ((0, 1), 0, 0), [(0, 1), 0], (0, (0, 1)), {(0, 1): 0}, ((0, 1), (0,))]
+    found += [(leans, feeder) for leans in no_leans() for feeder in (None, 0)]
+    found += [((0, 1), feeder) for feeder in no_feeders() if feeder is not None]
+    return others() + found
 
 
 def no_rows(most):

@@ -10,9 +10,9 @@ from ballrockers.boards import all_leans
 from ballrockers.errors import Fault, NoBoard, NoLeans
 from ballrockers.runs import told
 from samples import (
-    FAULTY, FAULTY_AT, LEAST, MIXED, chain, changed_papers, digits_of, drawn, kinds_changed, model_ball, no_boards,
-    no_leans, number_kinds, number_of, others, plain_board, refusal, rolled_board, rolled_leans, rolled_turning_board,
-    with_part, with_place, without_blind_places,
+    FAULTY, FAULTY_AT, LEAST, MIXED, chain, changed_papers, digits_of, drawn, kinds_changed, model_ball,
+    model_is_leans, no_boards, no_leans, number_kinds, number_of, others, plain_board, refusal, rolled_board,
+    rolled_leans, rolled_turning_board, with_part, with_place, without_blind_places,
 )
 
 # The first ball goes past the blind place, the second one into it.
@@ -56,11 +56,6 @@ def from_leans_to_leans(board, leans):
             return ("safe", tuple(sorted(balls)))
 
 
-def is_leans_of(board, thing):
-    """Whether the thing is leans of the board, kinds and all."""
-    return type(thing) is tuple and len(thing) == board[1] and all(type(lean) is int and lean in (0, 1) for lean in thing)
-
-
 def model_holds(board, leans, paper):
     """[21] word by word: whether the paper holds."""
     feeders = range(len(board[3]))
@@ -70,7 +65,7 @@ def model_holds(board, leans, paper):
         return False
     table = paper[-1]
     if paper[0] == "safe":
-        if not all(is_leans_of(board, at) for at in table):
+        if not all(model_is_leans(board, at) for at in table):
             return False
         comings = [model_ball(board, at, feeder) for at in set(table) for feeder in feeders]
         return leans in table and all(name is not None and behind in table for name, call, behind in comings)
@@ -78,7 +73,7 @@ def model_holds(board, leans, paper):
     if type(row) is not tuple or not row or not all(type(feeder) is int and feeder in feeders for feeder in row):
         return False
     for entry in table:
-        if type(entry) is not tuple or len(entry) != 2 or not is_leans_of(board, entry[0]):
+        if type(entry) is not tuple or len(entry) != 2 or not model_is_leans(board, entry[0]):
             return False
         if type(entry[1]) is not int or entry[1] < 0:
             return False
@@ -363,6 +358,12 @@ class StuckHolds(unittest.TestCase):
         for leans in ((0,), (1,)):
             for table in ((), (((0,), 0), ((1,), 1)), ((leans, 0),)):
                 self.assertIs(self.holds((), table, leans), False)
+
+    def test_parts_more_and_fewer(self):
+        table = (((0,), 0), ((1,), 1))
+        for entry in table:
+            for other in (entry + (0,), entry + ((),), entry[:1], entry[1:], entry[::-1], entry[:1] + (None,)):
+                self.assertIs(self.holds((0, 0), table + (other,)), False)
 
     def test_numbers_below_none(self):
         for balls in (-1, -2, -(10 ** 59)):

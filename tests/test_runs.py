@@ -8,20 +8,12 @@ from ballrockers.boards import all_leans, is_leans, is_stand
 from ballrockers.errors import Fault, NoBoard, NoLeans, NoNumber, NoRow, NoStand
 from ballrockers.runs import called, told
 from samples import (
-    FAULTY, FAULTY_AT, LEAST, MIXED, drawn, model_called, model_told, no_boards, no_feeders, no_leans, no_numbers,
-    no_rows, number_kinds, others, plain_board, refusal, rolled_board, rolled_leans, with_part,
+    FAULTY, FAULTY_AT, LEAST, MIXED, drawn, model_called, model_told, no_boards, no_leans, no_numbers, no_rows,
+    no_stands, number_kinds, others, plain_board, refusal, rolled_board, rolled_leans, with_part,
 )
 
 # Counts by two digits: 3, 0, 0, 0, and again.
 COUNTING = drawn("..a..", ".b...", feeders=(2,), doors=((3, 0), (5, 0), (0, 0), (0, 0), (5, 0)))
-
-
-def no_stands():
-    """Things that are no stand of MIXED."""
-    found = [0, (), (0, 1), ((0, 1),), ((0, 1), 0, 0), [(0, 1), 0], (0, (0, 1)), {(0, 1): 0}, ((0, 1), (0,))]
-    found += [(leans, feeder) for leans in no_leans() for feeder in (None, 0)]
-    found += [((0, 1), feeder) for feeder in no_feeders() if feeder is not None]
-    return others() + found
 
 
 class Told(unittest.TestCase):

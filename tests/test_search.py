@@ -78,6 +78,7 @@ class RowsAndBalls(unittest.TestCase):
                 for feeder in (1, 0):
                     self.assertEqual(balls.fall(leans, feeder), come_out(MIXED, leans, feeder))
         self.assertEqual(len(balls.outcomes), 8)
+        self.assertIs(balls.fall((0, 1), 0), balls.fall((0, 1), 0))
 
 
 if __name__ == "__main__":
