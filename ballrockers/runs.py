@@ -1,5 +1,6 @@
 """Runs of balls, one after another: by a told row of feeders, or as the doors call them."""
 
+from ballrockers.balls import Balls, told_by
 from ballrockers.boards import is_row, look_at_leans, look_at_stand
 from ballrockers.errors import NoNumber, NoRow
 from ballrockers.ways import come_out
@@ -11,13 +12,8 @@ MOST_BALLS = 2000
 def told(board, leans, row):
     """A tuple (names, leans behind) of a row of feeders' balls, whatever doors call."""
     look_at_leans(board, leans)
-    if not is_row(row, len(board[3]), MOST_BALLS):
-        raise NoRow()
-    names = []
-    for feeder in row:
-        door, leans = come_out(board, leans, feeder)
-        names.append(door[0])
-    return tuple(names), leans
+    look_at_row(board, row)
+    return told_by(Balls(board), leans, row)
 
 
 def called(board, stand, most):
@@ -32,3 +28,9 @@ def called(board, stand, most):
         name, feeder = door
         names.append(name)
     return tuple(names), (leans, feeder)
+
+
+def look_at_row(board, thing):
+    """Refuses what is no row of feeders' numbers of a board that was looked at."""
+    if not is_row(thing, len(board[3]), MOST_BALLS):
+        raise NoRow()

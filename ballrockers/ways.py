@@ -32,8 +32,8 @@ def look_at_feeder(board, leans, thing):
         raise NoFeeder()
 
 
-def fallen(board, leans, feeder):
-    """What way tells, of a board, leans and a feeder that were looked at."""
+def fallen(board, leans, feeder, fault=None):
+    """What way tells, of a board, leans and a feeder that were looked at; the fault's group isn't turned."""
     column = board[3][feeder]
     columns = [column]
     turned = []
@@ -41,22 +41,26 @@ def fallen(board, leans, feeder):
     heading = STRAIGHT
     for places in board[2]:
         piece = places[column]
-        heading = heading_behind(piece, heading, leaning)
+        heading = heading_behind(piece, heading, leaning, fault)
         if heading is None:
             break
-        if isinstance(piece, tuple):
+        if isinstance(piece, tuple) and piece[0] != fault:
             turned.append(piece[0])
         column += heading
         columns.append(column)
     return tuple(columns), tuple(turned), tuple(leaning)
 
 
-def heading_behind(piece, heading, leaning):
-    """The heading of a ball behind a piece to which it came by a heading; a rocker turns its group in the list."""
+def heading_behind(piece, heading, leaning, fault=None):
+    """The heading of a ball behind a piece to which it came by a heading; a rocker turns its group in the list.
+
+    A rocker of the fault's group leads as it leans, too, but doesn't turn any more.
+    """
     if isinstance(piece, tuple):
         group, side = piece
         lean = leaning[group]
-        leaning[group] = 1 - lean
+        if group != fault:
+            leaning[group] = 1 - lean
         return LEFT if lean == side else RIGHT
     if piece == "s":
         return None
@@ -68,9 +72,9 @@ def heading_behind(piece, heading, leaning):
     return LEFT if piece == "<" else RIGHT
 
 
-def come_out(board, leans, feeder):
+def come_out(board, leans, feeder, fault=None):
     """The door by which a ball comes out, NO_DOOR of one that is stuck, and the leans behind."""
-    columns, turned, behind = fallen(board, leans, feeder)
+    columns, turned, behind = fallen(board, leans, feeder, fault)
     # A ball that is stuck comes to fewer places than there are rows and a door.
     if len(columns) <= len(board[2]):
         return NO_DOOR, behind

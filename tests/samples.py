@@ -166,23 +166,24 @@ CAME = {"down": "above", "right": "left", "left": "right"}
 STEP = {"down": 0, "right": 1, "left": -1}
 
 
-def model_step(piece, came, leaning):
-    """To which side a ball goes from a piece, None in a blind place; turns a rocker's group in the dict."""
+def model_step(piece, came, leaning, fault=None):
+    """To which side a ball goes from a piece, None in a blind place; turns a rocker's group in the dict [9], [29]."""
     if isinstance(piece, tuple):
         group, side = piece
         goes = "left" if leaning[group] == side else "right"
-        leaning[group] = {0: 1, 1: 0}[leaning[group]]
+        if fault is None or group != fault:
+            leaning[group] = {0: 1, 1: 0}[leaning[group]]
         return goes
     return {".": "down", "<": "left", ">": "right", "x": CROSSED[came], "s": None}[piece]
 
 
-def model_way(board, leans, feeder):
-    """What way tells."""
+def model_way(board, leans, feeder, fault=None):
+    """What way tells; with a fault all groups that were met are told as turned."""
     leaning = dict(enumerate(leans))
     columns, turned, came = [board[3][feeder]], [], "above"
     for places in board[2]:
         piece = places[columns[-1]]
-        goes = model_step(piece, came, leaning)
+        goes = model_step(piece, came, leaning, fault)
         if goes is None:
             break
         if isinstance(piece, tuple):
@@ -192,9 +193,9 @@ def model_way(board, leans, feeder):
     return (tuple(columns), tuple(turned), tuple(leaning.values()))
 
 
-def model_ball(board, leans, feeder):
+def model_ball(board, leans, feeder, fault=None):
     """A ball's name, the feeder that is called, and the leans behind; None and None of a ball that is stuck."""
-    columns, turned, behind = model_way(board, leans, feeder)
+    columns, turned, behind = model_way(board, leans, feeder, fault)
     if len(columns) == len(board[2]) + 1:
         return board[4][columns[-1]] + (behind,)
     return (None, None, behind)
@@ -205,11 +206,11 @@ def model_is_leans(board, thing):
     return type(thing) is tuple and len(thing) == board[1] and all(type(lean) is int and lean in (0, 1) for lean in thing)
 
 
-def model_told(board, leans, row):
-    """What told tells."""
+def model_told(board, leans, row, fault=None):
+    """What told tells, or broken."""
     names = ()
     for feeder in row:
-        name, call, leans = model_ball(board, leans, feeder)
+        name, call, leans = model_ball(board, leans, feeder, fault)
         names += (name,)
     return (names, leans)
 
