@@ -10,10 +10,10 @@ from ballrockers.whole import is_from, is_tuple_within
 def stuck(board, leans):
     """A tuple ("safe", table), or ("stuck", row, table) with a shortest row whose last ball is stuck."""
     look_at_leans(board, leans)
-    row, balls = sought(leans, len(board[3]), free_balls(board))
+    row, rows = sought(leans, len(board[3]), free_balls(Balls(board)))
     if row is None:
-        return "safe", tuple(sorted(balls))
-    return "stuck", row, tuple(sorted(balls.items()))
+        return "safe", tuple(sorted(rows))
+    return "stuck", row, tuple(sorted([(place, len(rows[place])) for place in rows]))
 
 
 def stuck_holds(board, leans, paper):
@@ -30,7 +30,7 @@ def safe_holds(board, leans, table):
     """Whether the table bears that no ball is ever stuck."""
     if not isinstance(table, tuple) or not all([are_leans(thing, board[1]) for thing in table]):
         return False
-    return goes_on_within(leans, table, len(board[3]), free_balls(board))
+    return goes_on_within(leans, table, len(board[3]), free_balls(Balls(board)))
 
 
 def end_holds(board, leans, row, table):
@@ -40,7 +40,7 @@ def end_holds(board, leans, row, table):
         return False
     if not all([is_entry(thing, board[1]) for thing in table]):
         return False
-    return is_shortest_end(leans, row, table, feeders, free_balls(board))
+    return is_shortest_end(leans, row, table, feeders, free_balls(Balls(board)))
 
 
 def is_entry(thing, groups):
@@ -48,10 +48,8 @@ def is_entry(thing, groups):
     return is_tuple_within(thing, 2, 2) and are_leans(thing[0], groups) and is_from(thing[1], 0)
 
 
-def free_balls(board):
+def free_balls(balls):
     """A def that tells the leans behind a ball, None of a ball that is stuck."""
-    balls = Balls(board)
-
     def leans_behind(leans, feeder):
         door, behind = balls.fall(leans, feeder)
         return None if door == NO_DOOR else behind

@@ -36,8 +36,7 @@ def look_at_rows(board, thing):
 def tells(balls, leans, rows, answers):
     """Whether the balls of each row, begun from these leans, tell just its answer."""
     for row, answer in zip(rows, answers):
-        # A longer or shorter answer is told by none; that is seen without a ball.
-        if len(row) != len(answer) or told_by(balls, leans, row)[0] != answer:
+        if told_by(balls, leans, row)[0] != answer:
             return False
     return True
 

@@ -16,10 +16,10 @@ def alike(board, leans, other, other_leans):
         raise NoFit()
     if not are_small(board, other):
         raise TooGreat()
-    row, balls = sought((leans, other_leans), len(board[3]), like_balls(board, other))
+    row, rows = sought((leans, other_leans), len(board[3]), like_balls(Balls(board), Balls(other)))
     if row is None:
-        return "alike", tuple(sorted(balls))
-    return "parted", row, tuple(sorted([(one, two, many) for (one, two), many in balls.items()]))
+        return "alike", tuple(sorted(rows))
+    return "parted", row, tuple(sorted([pair + (len(rows[pair]),) for pair in rows]))
 
 
 def alike_holds(board, leans, other, other_leans, paper):
@@ -29,9 +29,9 @@ def alike_holds(board, leans, other, other_leans, paper):
         return False
     start = (leans, other_leans)
     if is_tuple_within(paper, 2, 2) and paper[0] == "alike":
-        return likeness_holds(board, other, start, paper[1])
+        return likeness_holds(Balls(board), Balls(other), start, paper[1])
     if is_tuple_within(paper, 3, 3) and paper[0] == "parted":
-        return parting_holds(board, other, start, paper[1], paper[2])
+        return parting_holds(Balls(board), Balls(other), start, paper[1], paper[2])
     return False
 
 
@@ -53,22 +53,23 @@ def are_small(board, other):
     return max(board[1], other[1]) <= MOST_GROUPS_ALIKE
 
 
-def likeness_holds(board, other, start, table):
-    """Whether the table bears that both tell the same names by every row."""
-    if not isinstance(table, tuple) or not all([is_leans_pair(thing, board[1], other[1]) for thing in table]):
+def likeness_holds(balls, other_balls, start, table):
+    """Whether the table bears that both boards' balls tell the same names by every row."""
+    groups, other_groups = balls.board[1], other_balls.board[1]
+    if not isinstance(table, tuple) or not all([is_leans_pair(thing, groups, other_groups) for thing in table]):
         return False
-    return goes_on_within(start, table, len(board[3]), like_balls(board, other))
+    return goes_on_within(start, table, len(balls.board[3]), like_balls(balls, other_balls))
 
 
-def parting_holds(board, other, start, row, table):
+def parting_holds(balls, other_balls, start, row, table):
     """Whether the row's last balls alone tell unlike names, and the table bears that no shorter row parts them."""
-    feeders = len(board[3])
+    feeders = len(balls.board[3])
     if not is_some_row(row, feeders) or not isinstance(table, tuple):
         return False
-    if not all([is_entry(thing, board[1], other[1]) for thing in table]):
+    if not all([is_entry(thing, balls.board[1], other_balls.board[1]) for thing in table]):
         return False
     entries = [((leans, other_leans), many) for leans, other_leans, many in table]
-    return is_shortest_end(start, row, entries, feeders, like_balls(board, other))
+    return is_shortest_end(start, row, entries, feeders, like_balls(balls, other_balls))
 
 
 def is_leans_pair(thing, groups, other_groups):
@@ -81,11 +82,8 @@ def is_entry(thing, groups, other_groups):
     return is_tuple_within(thing, 3, 3) and is_leans_pair(thing[:2], groups, other_groups) and is_from(thing[2], 0)
 
 
-def like_balls(board, other):
+def like_balls(balls, other_balls):
     """A def that tells the pair of leans behind both balls of a feeder, None where their names are unlike."""
-    balls = Balls(board)
-    other_balls = Balls(other)
-
     def pair_behind(pair, feeder):
         door, behind = balls.fall(pair[0], feeder)
         other_door, other_behind = other_balls.fall(pair[1], feeder)

@@ -6,9 +6,10 @@ ball that ends it.
 
 
 def sought(start, feeders, behind):
-    """A tuple (row, balls): a shortest row whose last ball ends it, None where none does; and a dict.
+    """A tuple (row, rows): a shortest row whose last ball ends it, None where none does; and a dict.
 
-    The dict tells the least number of balls to each place that is come to by fewer balls than the row has.
+    The dict tells the first row, of the fewest balls, to each place that is come to by fewer balls than the row has;
+    first by how many balls it has, then as Python orders tuples. So the places are ordered, too.
     """
     rows = {start: ()}
     layer = [start]
@@ -20,12 +21,12 @@ def sought(start, feeders, behind):
                 row = rows[place] + (feeder,)
                 coming = behind(place, feeder)
                 if coming is None:
-                    return row, {at: len(rows[at]) for at in rows if len(rows[at]) < len(row)}
+                    return row, {at: rows[at] for at in rows if len(rows[at]) < len(row)}
                 if coming not in rows:
                     rows[coming] = row
                     further.append(coming)
         layer = further
-    return None, {at: len(rows[at]) for at in rows}
+    return None, rows
 
 
 def goes_on_within(start, places, feeders, behind):

@@ -72,10 +72,16 @@ def heading_behind(piece, heading, leaning, fault=None):
     return LEFT if piece == "<" else RIGHT
 
 
-def come_out(board, leans, feeder, fault=None):
-    """The door by which a ball comes out, NO_DOOR of one that is stuck, and the leans behind."""
+def come_down(board, leans, feeder, fault=None):
+    """The column of the door by which a ball comes out, None of one that is stuck, and the leans behind."""
     columns, turned, behind = fallen(board, leans, feeder, fault)
     # A ball that is stuck comes to fewer places than there are rows and a door.
-    if len(columns) <= len(board[2]):
-        return NO_DOOR, behind
-    return board[4][columns[-1]], behind
+    column = columns[-1] if len(columns) > len(board[2]) else None
+    return column, behind
+
+
+def come_out(board, leans, feeder, fault=None):
+    """The door by which a ball comes out, NO_DOOR of one that is stuck, and the leans behind."""
+    column, behind = come_down(board, leans, feeder, fault)
+    door = NO_DOOR if column is None else board[4][column]
+    return door, behind

@@ -16,7 +16,7 @@ from ballrockers.machines import word_board
 from ballrockers.mirrors import mirrored
 from ballrockers.runs import called, told
 from ballrockers.texts import board_read, board_shown, leans_shown
-from samples import MIXED, chain, counting_by_four, drawn, refusal
+from samples import MIXED, chain, counting_by_four, drawn, refusal, with_part
 
 # The first ball is stuck, the second comes out by 7, and so on.
 BLIND = drawn(".a.", "s..", feeders=(1, 0), doors=((5, 1), (6, None), (7, 1)))
@@ -341,6 +341,11 @@ class Alike(unittest.TestCase):
         self.assertEqual(desk.say("alike a b"), "parted 4")
         desk.say("run b 2")
         self.assertEqual(desk.say("alike a b"), "alike")
+        # More leans are come to than balls part them.
+        one, other = with_part(chain(3), 3, (4, 0)), with_part(chain(3), 3, (0, 4))
+        self.assertGreater(len(alike(one, (0,) * 3, other, (0,) * 3)[2]), 8)
+        desk = desk_with(a=(one, (0,) * 3, 0), b=(other, (0,) * 3, 0))
+        self.assertEqual(desk.say("alike a b"), "parted 8")
         # The feeders that are kept don't matter.
         desk = desk_with(a=(BLIND, (0,), None), b=(BLIND, (0,), 1))
         self.assertEqual(desk.say("alike a b"), "alike")
@@ -409,7 +414,7 @@ class NoSayings(unittest.TestCase):
             self.is_none(row)
 
     def test_no_names(self):
-        for name in ("A", "Abc", "aB", "a1", "1", "1a", "0", "abcdefghi", "a" * 100, "-", "a-b", "a_b", "a.", "~", "a'"):
+        for name in ("", "A", "Abc", "aB", "a1", "1", "1a", "0", "abcdefghi", "a" * 100, "-", "a-b", "a_b", "a.", "~", "a'"):
             for row in (
                 f"counter {name} 5", f"adder {name} 2", f"word {name} 1", f"mirror {name} a", f"mirror c {name}",
                 f"below {name} a b", f"below c {name} b", f"below c a {name}", f"drop {name}", f"show {name}",

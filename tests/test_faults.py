@@ -9,6 +9,7 @@ from ballrockers.boards import all_leans
 from ballrockers.errors import Fault, NoBoard, NoFault, NoLeans, NoNames, NoRow
 from ballrockers.faults import broken, faults_told
 from ballrockers.runs import told
+from ballrockers.ways import fallen
 from samples import (
     FAULTY, FAULTY_AT, LEAST, MIXED, chain, drawn, kinds_changed, model_told, no_boards, no_leans, no_rows,
     number_kinds, others, plain_board, refusal, rolled_board, rolled_leans, rolled_turning_board, with_part, with_place,
@@ -56,6 +57,11 @@ class Broken(unittest.TestCase):
         self.assertEqual(broken(COUNTING, (1, 0), 0, (0,) * 5), ((1,) * 5, (1, 0)))
         self.assertEqual(broken(COUNTING, (0, 0), 1, (0,) * 5), ((3, 1, 3, 1, 3), (1, 0)))
         self.assertEqual(broken(COUNTING, (1, 1), 1, (0,) * 5), ((1, 0, 1, 0, 1), (0, 1)))
+
+    def test_it_is_not_turned(self):
+        self.assertEqual(fallen(COUNTING, (0, 0), 0), ((2, 1, 0), (0, 1), (1, 1)))
+        self.assertEqual(fallen(COUNTING, (0, 0), 0, 0), ((2, 1, 0), (1,), (0, 1)))
+        self.assertEqual(fallen(COUNTING, (0, 0), 0, 1), ((2, 1, 0), (0,), (1, 0)))
 
     def test_both_sides_of_one_group(self):
         board = drawn(".a..A.", feeders=(1, 4))

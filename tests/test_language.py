@@ -37,6 +37,23 @@ setattr super type vars format format_map sys chr
 """.split())
 
 
+METHODS = set("""
+append clear copy count endswith extend find get index insert isalnum isalpha isdigit islower isspace isupper items join
+keys ljust lower lstrip partition pop remove replace reverse rfind rjust rpartition rsplit rstrip setdefault split
+splitlines startswith strip update upper values zfill bit_length add discard sort
+""".split())
+
+KEYWORDS = {"sorted": {"key", "reverse"}, "min": {"key", "default"}, "max": {"key", "default"}, "sum": {"start"},
+            "enumerate": {"start"}, "zip": {"strict"}}
+
+# Walked on the spot: what they stand straight within, else.
+WALKED = {"zip", "enumerate", "reversed", "range"}
+WALKED_METHODS = {"items", "keys", "values"}
+WALKERS = {"list", "tuple", "dict", "sorted", "sum", "any", "all", "enumerate", "zip", "bytes", "min", "max"}
+
+PYTHONS_ERRORS = {"KeyError", "ZeroDivisionError", "StopIteration"}
+
+
 def sign_wrongs(text):
     """L10, L14, L17: sizes, signs and words."""
     rows = text.split("\n")
@@ -153,10 +170,68 @@ def local_wrongs(tree):
                     yield f"L15 the local {name} in {whole.name}"
 
 
+def called_name(node):
+    """The name that a call calls straight, None of any other node."""
+    return node.func.id if isinstance(node, ast.Call) and isinstance(node.func, ast.Name) else None
+
+
+def called_method(node):
+    """The name of the method that a call calls, None of any other node."""
+    return node.func.attr if isinstance(node, ast.Call) and isinstance(node.func, ast.Attribute) else None
+
+
+def walk_wrongs(tree):
+    """L22, L23, L24: keywords at Python's own names, what is walked on the spot, sets."""
+    above = {child: node for node in ast.walk(tree) for child in ast.iter_child_nodes(node)}
+    for node in ast.walk(tree):
+        parent = above.get(node)
+        if called_name(node) in OWN_NAMES:
+            keywords = {keyword.arg for keyword in node.keywords}
+            if not keywords <= KEYWORDS.get(called_name(node), set()):
+                yield f"L22 keywords in line {node.lineno}"
+        if called_name(node) in WALKED or called_method(node) in WALKED_METHODS:
+            walked = isinstance(parent, (ast.For, ast.comprehension)) and parent.iter is node
+            if not walked and not (called_name(parent) in WALKERS and node in parent.args[:1]) and called_name(parent) != "zip":
+                yield f"L23 kept in line {node.lineno}"
+        if isinstance(node, (ast.Set, ast.SetComp)) or called_name(node) in ("set", "frozenset"):
+            if called_name(parent) not in ("sorted", "len") and not isinstance(parent, ast.Compare):
+                yield f"L24 a set in line {node.lineno}"
+
+
+def error_wrongs(tree, own_errors):
+    """L19: what is taken, and what is raised."""
+    for node in ast.walk(tree):
+        if isinstance(node, ast.ExceptHandler):
+            taken = node.type.elts if isinstance(node.type, ast.Tuple) else [node.type]
+            if not all(isinstance(part, ast.Name) and part.id in own_errors | PYTHONS_ERRORS for part in taken):
+                yield f"L19 taken in line {node.lineno}"
+        if isinstance(node, ast.Raise) and node.exc is not None and called_name(node.exc) not in own_errors:
+            yield f"L19 raised in line {node.lineno}"
+
+
+def value_names(trees):
+    """The methods of all classes of the files, and the values that these give their objects."""
+    classes = [node for tree in trees for node in ast.walk(tree) if isinstance(node, ast.ClassDef)]
+    methods = {part.name for found in classes for part in found.body if isinstance(part, ast.FunctionDef)}
+    values = {node.attr for found in classes for node in ast.walk(found)
+              if isinstance(node, ast.Attribute) and isinstance(node.ctx, ast.Store)}
+    return methods, values
+
+
+def attribute_wrongs(tree, methods, values):
+    """L18, L25: methods and values that are asked for."""
+    called = {node.func for node in ast.walk(tree) if isinstance(node, ast.Call)}
+    for node in ast.walk(tree):
+        if called_method(node) is not None and called_method(node) not in METHODS | methods:
+            yield f"L25 the method {called_method(node)} in line {node.lineno}"
+        if isinstance(node, ast.Attribute) and node not in called and node.attr not in values:
+            yield f"L18 the value {node.attr} in line {node.lineno}"
+
+
 def wrongs(text):
     """All that is seen to be wrong in a file's text."""
     tree = ast.parse(text)
-    told = list(sign_wrongs(text)) + list(top_wrongs(tree)) + list(local_wrongs(tree))
+    told = list(sign_wrongs(text)) + list(top_wrongs(tree)) + list(local_wrongs(tree)) + list(walk_wrongs(tree))
     for node in ast.walk(tree):
         if type(node).__name__ not in NODES:
             told.append(f"L6 L7 {type(node).__name__} in line {getattr(node, 'lineno', '?')}")
@@ -207,6 +282,25 @@ class Language(unittest.TestCase):
             with self.subTest(path.name):
                 self.assertEqual(wrongs(path.read_text(encoding="utf-8")), [])
 
+    def test_methods_and_values(self):
+        trees = {path.name: ast.parse(path.read_text()) for path in self.files()}
+        methods, values = value_names(trees.values())
+        self.assertEqual(methods & values, set())
+        for name, tree in trees.items():
+            with self.subTest(name):
+                self.assertEqual(list(attribute_wrongs(tree, methods, values)), [])
+        for text in ("x.format(1)\n", "x.decode()\n", "x.isdecimal()\n", "y = x.many\n", "y = x.append\n"):
+            self.assertNotEqual(list(attribute_wrongs(ast.parse(text), methods, values)), [])
+
+    def test_errors(self):
+        own_errors = set(top_names(PACKAGE / "errors.py"))
+        for path in self.files():
+            with self.subTest(path.name):
+                self.assertEqual(list(error_wrongs(ast.parse(path.read_text()), own_errors)), [])
+        for text in ("raise ValueError()\n", "raise NoRow\n", "try:\n    x()\nexcept Exception:\n    pass\n",
+                     "try:\n    x()\nexcept (NoRow, ValueError):\n    pass\n"):
+            self.assertNotEqual(list(error_wrongs(ast.parse(text), own_errors)), [])
+
     def test_no_two_files_draw_from_one_another(self):
         left = {path.stem: draws(path) for path in self.files()}
         while left:
@@ -228,6 +322,9 @@ class Language(unittest.TestCase):
             "def f(x):\n    return x / 2\n", "def f(x):\n    return type(x)\n", "def f(_x):\n    return 1\n",
             "def f(x):\n    with x:\n        pass\n", "def f(x):\n    return x is 5\n", "def f(x):\n    return hash(x)\n",
             "def f(min):\n    return 1\n", "# a type\n", "print(1)\n", "x = 'a%b'\n", "x = 1  # " + "a" * 120 + "\n",
+            "def f(x):\n    y = zip(x, x)\n    return y\n", "def f(x):\n    return x.items()\n",
+            "def f(x):\n    return set(x)\n", "def f(x):\n    return list({y for y in x})\n",
+            "def f(x):\n    return list(x, key=1)\n", "def f(x):\n    return reversed(enumerate(x))\n",
             "from ballrockers.runs import told\ndef f(told):\n    return 1\n",
             "from ballrockers.runs import told\ndef f():\n    told = 1\n", "def f():\n" + "    pass\n" * 40, "x = 1\n" * 401, "class A:\n    @staticmethod\n    def f():\n        pass\n",
         ):

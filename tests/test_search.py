@@ -1,5 +1,6 @@
 """The search from place to place, and what bears its answers: over places that are plain numbers."""
 
+import itertools
 import unittest
 
 from ballrockers.balls import Balls
@@ -22,19 +23,33 @@ def onward(place, feeder):
 class Search(unittest.TestCase):
     def test_sought(self):
         for start in (MANY, MANY - 1, MANY - 7):
-            row, balls = sought(start, 1, onward)
+            row, rows = sought(start, 1, onward)
             self.assertEqual(row, (0,) * (MANY + 1 - start))
-            self.assertEqual(balls, {place: place - start for place in range(start, MANY + 1)})
+            self.assertEqual(rows, {place: (0,) * (place - start) for place in range(start, MANY + 1)})
 
     def test_none_ends(self):
-        row, balls = sought(0, 2, lambda place, feeder: (place + feeder + 1) % 7)
+        row, rows = sought(0, 2, lambda place, feeder: (place + feeder + 1) % 7)
         self.assertIsNone(row)
-        self.assertEqual(balls, {0: 0, 1: 1, 2: 1, 3: 2, 4: 2, 5: 3, 6: 3})
+        self.assertEqual(rows, {0: (), 1: (0,), 2: (1,), 3: (0, 1), 4: (1, 1), 5: (0, 1, 1), 6: (1, 1, 1)})
+
+    def test_first_rows_in_order(self):
+        for steps in ((3, 5), (5, 3), (1, 1, 6), (0, 2, 4, 9)):
+            row, rows = sought(0, len(steps), lambda place, feeder: (place * 2 + steps[feeder]) % 23)
+            self.assertIsNone(row)
+            found = {}
+            for many in range(6):
+                for row in itertools.product(range(len(steps)), repeat=many):
+                    place = 0
+                    for feeder in row:
+                        place = (place * 2 + steps[feeder]) % 23
+                    found.setdefault(place, row)
+            short = [pair for pair in rows.items() if len(pair[1]) < 6]
+            self.assertEqual(short, list(found.items()))
 
     def test_no_place_of_as_many_balls_as_the_row(self):
         # Feeder 0 of the first place leads on, feeder 1 ends it.
-        row, balls = sought(0, 2, lambda place, feeder: None if feeder else place + 1)
-        self.assertEqual((row, balls), ((1,), {0: 0}))
+        row, rows = sought(0, 2, lambda place, feeder: None if feeder else place + 1)
+        self.assertEqual((row, rows), ((1,), {0: ()}))
 
     def test_rows_of_more_than_two_thousand_balls(self):
         row = (0,) * (MANY + 1)
